@@ -1,0 +1,1 @@
+"""Leadsever: moved pages and remembered redirects, decided for all addresses."""
