@@ -13,9 +13,15 @@ INTERFACE = {
                "TakenPlace", "NotStanding", "Standing", "BadText", "BadCommand", "NotSafe"],
     "words": ["is_word", "is_address", "is_day", "begins", "rest_of", "address_key", "beginnings", "strange_word"],
     "tables": ["is_rule", "Table", "is_end", "answers_differ"],
+    "trees": ["joints", "words_of", "turning", "turns"],
+    "walks": ["walked", "is_round"],
+    "servers": ["Server"],
+    "heads": ["Heads", "unbounded", "lands", "leads_differ"],
 }
 METHODS = {
     "Table": ["__init__", "rules", "__contains__", "__len__", "__eq__", "answer", "rule_for", "with_rule", "without"],
+    "Server": ["__init__", "set_table", "days", "table", "answer", "kept", "sources", "copied", "__eq__", "drop_after"],
+    "Heads": ["__init__", "joints", "words", "heads", "head", "answers", "back", "met", "is_bounded"],
 }
 
 LIBRARY = {

@@ -1,0 +1,94 @@
+"""What reading the fronts of redirects comes to, whatever words are behind them."""
+
+from leadsever.trees import BEHIND
+
+
+class Reading:
+    """The least backs that go with some fronts: a dict from all heads to lists of fronts.
+
+    Sets of joints are kept as integers, with a bit for each joint: with many tables, reading
+    comes to the same set again and again, and what it comes to next is found once for each.
+    """
+
+    def __init__(self, fronts, places):
+        self._fronts = fronts
+        self._joints = list(places)
+        self._bits = {joint: 1 << at for at, joint in enumerate(self._joints)}
+        self._backs = {head: 0 for head in fronts}
+        self._come = {(): self._bits[()]}
+        self._starts = _all_starts(fronts)
+        while self._read_all():
+            pass
+
+    def _read_all(self):
+        """Reads all fronts by the backs that are known; returns whether this gives more of them."""
+        known = {}
+        for start in self._starts:
+            step = (self._come[start[:-1]], start[-1])
+            if step not in known:
+                known[step] = self._read_word(step[0], step[1])
+            self._come[start] = known[step]
+        more = False
+        for head in self._fronts:
+            # Behind an address that ends with its joint, there are no words to come back to.
+            if head[1] != BEHIND:
+                found = self._backs[head]
+                for front in self._fronts[head]:
+                    found = found | self._come[front]
+                more = more or found != self._backs[head]
+                self._backs[head] = found
+        return more
+
+    def _read_word(self, places, word):
+        """The set of joints to which reading a word at the joints of a set comes."""
+        found = 0
+        for joint in self._members(places):
+            longer = (*joint, word)
+            found = found | (self._bits[longer] if longer in self._bits else self._backs[(joint, word)])
+        return found
+
+    def _members(self, places):
+        """The list of the joints in a set."""
+        found = []
+        while places:
+            lowest = places & -places
+            found.append(self._joints[lowest.bit_length() - 1])
+            places = places - lowest
+        return found
+
+    def backs(self, head):
+        """The list of the joints to which walks over a head come back."""
+        return self._members(self._backs[head])
+
+    def graph(self):
+        """A graph in which each head leads, by some steps, to all heads that are met over it.
+
+        Between them are the beginnings of the fronts, and the sets of joints with the word that
+        is read there.
+        """
+        found = {(): []}
+        for start in self._starts:
+            step = (self._come[start[:-1]], start[-1])
+            found[start] = [start[:-1], step]
+            if step not in found:
+                found[step] = self._met(step[0], step[1])
+        for head in self._fronts:
+            found[head] = list(self._fronts[head])
+            if head[1] == BEHIND:
+                for front in self._fronts[head]:
+                    found[head].extend(self._met(self._come[front], BEHIND))
+        return found
+
+    def _met(self, places, word):
+        """The list of the heads that are met in reading a word at the joints of a set."""
+        return [(joint, word) for joint in self._members(places) if (*joint, word) not in self._bits]
+
+
+def _all_starts(fronts):
+    """The list of the beginnings of some fronts but (), each behind its own beginnings."""
+    found = {}
+    for head in fronts:
+        for front in fronts[head]:
+            for size in range(1, len(front) + 1):
+                found[front[:size]] = True
+    return list(found)
