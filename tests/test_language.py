@@ -17,11 +17,16 @@ INTERFACE = {
     "walks": ["walked", "is_round"],
     "servers": ["Server"],
     "heads": ["Heads", "unbounded", "lands", "leads_differ"],
+    "heights": ["is_height_paper", "height_paper"],
+    "sites": ["Site"],
+    "heirs": ["claims_table", "heir", "fits", "address_of", "standing", "heirs_differ"],
 }
 METHODS = {
     "Table": ["__init__", "rules", "__contains__", "__len__", "__eq__", "answer", "rule_for", "with_rule", "without"],
     "Server": ["__init__", "set_table", "days", "table", "answer", "kept", "sources", "copied", "__eq__", "drop_after"],
     "Heads": ["__init__", "joints", "words", "heads", "head", "answers", "back", "met", "is_bounded"],
+    "Site": ["__init__", "put_page", "put_section", "move", "bring", "merge", "take", "names", "sort_of", "at", "last",
+             "place_of", "claims", "events", "copied", "__eq__"],
 }
 
 LIBRARY = {
@@ -120,16 +125,30 @@ class Language(unittest.TestCase):
     def test_each_name_is_bound_once(self):
         for name in package_files():
             tree = tree_of(name)
-            bound = defined(tree)
+            taken = [part.name for node in tree.body if isinstance(node, ast.ImportFrom) for part in node.names]
+            bound = defined(tree) + taken
             for node in tree.body:
-                if isinstance(node, ast.ImportFrom):
-                    bound.extend(part.name for part in node.names)
                 if isinstance(node, ast.Assign):
                     bound.extend(part.id for part in node.targets)
             self.assertEqual(len(bound), len(set(bound)), name)
+            # A parameter may be called as a function of its file, not as a class or an import.
+            taken.extend(node.name for node in tree.body if isinstance(node, ast.ClassDef))
             for node in ast.walk(tree):
                 if isinstance(node, ast.arg):
-                    self.assertNotIn(node.arg, bound, name)
+                    self.assertNotIn(node.arg, taken, name)
+                if isinstance(node, ast.Name) and isinstance(node.ctx, ast.Store):
+                    self.assertNotIn(node.id, taken, name)
+
+    def test_no_two_files_import_from_each_other(self):
+        imports = {}
+        for name in package_files():
+            found = [node.module for node in tree_of(name).body if isinstance(node, ast.ImportFrom)]
+            imports[name[:-3]] = {module.split(".")[1] for module in found if module not in LIBRARY}
+        while imports:
+            free = [name for name, others in imports.items() if not others & imports.keys()]
+            self.assertTrue(free, imports)
+            for name in free:
+                del imports[name]
 
     def test_what_stands_at_module_level(self):
         for name in package_files():
