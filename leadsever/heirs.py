@@ -24,15 +24,14 @@ def claims_table(site):
 
 
 def _is_covered(claim, claims):
-    """Whether a claim that ended lies within what a section claimed later."""
-    sort, place, _, _, ended = claim
+    """Whether the latest claim of its sort at a place ended, and lies within what a section claimed later."""
+    _, place, _, _, ended = claim
     if ended is None:
         return False
-    for other_sort, start, _, made, _ in claims:
-        if other_sort == "section" and made > ended and begins(place, start):
-            # At the place itself, a section's later claim would be the latest one of this sort.
-            if sort == "page" or len(start) < len(place):
-                return True
+    for sort, start, _, made, _ in claims:
+        # If the claim is a section's, none at the very place was made later.
+        if sort == "section" and made > ended and begins(place, start):
+            return True
     return False
 
 

@@ -216,6 +216,11 @@ class Over(unittest.TestCase):
         self.check([(TABLE, 0)], ((), "aa"), [], [], True)
         self.check([(TABLE, 0)], (("c",), "$"), [], [], True)
 
+    def test_each_may_be_asked_first(self):
+        self.assertEqual(Heads([(TABLE, 0)]).back((("a",), "b")), [("c",)])
+        self.assertEqual(Heads(alone(("open", ("a",), ("to", ("b",), 0)))).met(((), "a")), [((), "b")])
+        self.assertIs(Heads(alone(("open", ("a",), ("to", ("a",), 0)))).is_bounded(((), "a")), False)
+
     def test_coming_back(self):
         self.check([(TABLE, 0)], (("a",), "b"), [("c",)], [], True)
         self.check(alone(("open", ("a",), ("to", (), 0))), ((), "a"), [()], [], True)

@@ -221,6 +221,11 @@ class Heirs(unittest.TestCase):
         self.check(events, (("a", "x"), ("page", "p"), ("b", "x")), (("a", "y"), ("page", "q"), ("c",)),
                    (("b", "y"), ("section", "s", ("y",)), ("b", "y")))
 
+    def test_names_that_are_words_of_answers(self):
+        for name in ("gone", "nothing", "page", "section", "to", "at", "end"):
+            self.check([put("page", name, "x"), put("section", "s", "y")], (("x",), ("page", name), ("x",)))
+            self.check([put("section", name, "x"), move(name, "y")], (("x", "z"), ("section", name, ("z",)), ("y", "z")))
+
     def test_walks_of_many_redirects(self):
         events = [put("section", "s", "a", "b"), move("s", "a")]
         self.check(events, (("a",) + ("b",) * 4999, ("section", "s", ()), ("a",)),

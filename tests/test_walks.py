@@ -91,6 +91,15 @@ class Walked(unittest.TestCase):
         self.check(rules, ("a",), ([("a",), ("a",)], None, (0, 1, 1)))
         self.check(rules, ("a", "c"), ([("a", "c"), ("a", "b", "c"), ("a", "b", "b", "c")], None, (1, 2, 2)))
 
+    def test_a_round_that_is_seen_only_later(self):
+        # The step from ('b',) looks at all words that there are, and comes again at the place 3 only.
+        rules = [("open", ("a",), ("to", (), 0)), ("open", ("b",), ("to", ("a", "b", "a"), 0))]
+        walk = [("a", "b"), ("b",), ("a", "b", "a")]
+        for steps in (2, 3, 4, 1000):
+            self.check(rules, ("a", "b"), (walk, None, (0, 2, 2)), steps=steps)
+        for steps in (0, 1):
+            self.check(rules, ("a", "b"), (walk[:steps + 1], None, None), steps=steps)
+
     def test_growing_behind_a_way_that_shrinks(self):
         rules = [("open", ("a",), ("to", (), 0)), ("open", ("b",), ("to", ("c", "a", "a"), 0)),
                  ("open", ("c",), ("to", ("b",), 0))]
@@ -152,7 +161,11 @@ class Walked(unittest.TestCase):
             table = Table(list(rules.values()))
             due = plain_walked(table, address, 30)
             self.assertEqual(walked(table, address, steps=30), due, (table.rules, address))
-            long += due[2] is not None and due[2][1] > 5
+            if due[2] is not None:
+                last = due[2][1]
+                long += last > 5
+                self.assertEqual(walked(table, address, steps=last), due)
+                self.assertEqual(walked(table, address, steps=last - 1), (due[0][:-1], None, None))
         self.assertGreater(long, 10)
 
 
