@@ -97,6 +97,7 @@ def _read(front, heights, backs, known):
                     for back in backs[head]:
                         found[back] = True
                 else:
-                    found[(*joint, front[size - 1])] = True
+                    longer = (*joint, front[size - 1])
+                    found[longer] = True
             known[front[:size]] = (list(found), most)
     return known[front]

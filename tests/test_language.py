@@ -70,6 +70,15 @@ def defined(tree):
     return [node.name for node in tree.body if isinstance(node, (ast.FunctionDef, ast.ClassDef))]
 
 
+def stars_in_indexes(tree):
+    """The rows of the indexes that have a star anywhere within their brackets."""
+    found = []
+    for node in ast.walk(tree):
+        if isinstance(node, ast.Subscript) and any(isinstance(part, ast.Starred) for part in ast.walk(node.slice)):
+            found.append(node.lineno)
+    return found
+
+
 class Interface(unittest.TestCase):
     def test_each_name_is_defined_in_its_file(self):
         for module, names in INTERFACE.items():
@@ -179,6 +188,17 @@ class Language(unittest.TestCase):
                     for op, right in zip(node.ops, node.comparators):
                         if isinstance(op, (ast.Is, ast.IsNot)):
                             self.assertTrue(isinstance(right, ast.Constant) and right.value in (None, True, False))
+
+    def test_no_star_in_an_index(self):
+        for name in package_files():
+            self.assertEqual(stars_in_indexes(tree_of(name)), [], name)
+
+    def test_stars_in_indexes_are_found(self):
+        for line in ("a[(*b, c)]", "a[(*b, c)] = d", "a[*b]", "del a[b, (*c,)]", "a[b][[*c][0]]", "a[f(*b)]", "a[1:g((*b, c))]",
+                     "x = {b: a[0][(d, *c)] for b in e}", "a[[f(k) for k in (*b, c)]] += 1"):
+            self.assertEqual(stars_in_indexes(ast.parse(line)), [1], line)
+        for line in ("a = (*b, c)", "a[b] = (*c, d)", "f(*a[0])", "(*a[b], c)[0]", "first, *rest = a[0]", "[*a][0]", "{**a}[b]"):
+            self.assertEqual(stars_in_indexes(ast.parse(line)), [], line)
 
     def test_builtins_and_methods(self):
         own = set()
