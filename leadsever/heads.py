@@ -17,14 +17,15 @@ class Heads:
         tables = [table for table, _ in sources]
         words = words_of(tables)
         self._first = tables[0]
-        self._others = [(table, max(age, 1)) for table, age in sources[1:]]
+        self._others = [(table, max(age, 1)) for table, age in sources[1:] if _lasts_for(table, max(age, 1))]
         self._places = joints_found(tables)
         self._joints = sorted(list(self._places), key=address_key)
         self._strange = strange_word(words)
         self._words = sorted([*words, self._strange])
         self._heads = _all_heads(self._joints, self._words)
         self._known = {head: True for head in self._heads}
-        # Found when it is first asked for.
+        # Found when they are first asked for.
+        self._allowed = {}
         self._reading = None
         self._graph = None
         self._depths = None
@@ -57,8 +58,13 @@ class Heads:
 
     def answers(self, head):
         """The list of the tuples (kind, front) for the allowed answers to a head."""
-        joint, word = tuple(head[0]), head[1]
-        address = joint if word == BEHIND else (*joint, word)
+        key = (tuple(head[0]), head[1])
+        if key not in self._allowed:
+            self._allowed[key] = self._find_answers(key[0] if key[1] == BEHIND else (*key[0], key[1]))
+        return list(self._allowed[key])
+
+    def _find_answers(self, address):
+        """The list of the tuples (kind, front) for the allowed answers to an address of a joint and a word."""
         found = [kind_and_front(self._first.answer(address))]
         for table, least in self._others:
             answer = table.answer(address)
@@ -96,6 +102,14 @@ class Heads:
         """A number that is greater for a head than for all that are met over it, or None."""
         self._read_all()
         return self._depths.get(self._known_head(head))
+
+
+def _lasts_for(table, least):
+    """Whether a table has a redirect that lasts for so many days."""
+    for _, _, answer in table.rules:
+        if answer[0] == "to" and answer[2] >= least:
+            return True
+    return False
 
 
 def _all_heads(places, words):

@@ -20,6 +20,10 @@ INTERFACE = {
     "heights": ["is_height_paper", "height_paper"],
     "sites": ["Site"],
     "heirs": ["claims_table", "heir", "fits", "address_of", "standing", "heirs_differ"],
+    "safe": ["wrong_way", "is_wrong_way", "need_safe", "wrong_address"],
+    "readers": ["Reader", "visits_for", "longer_walk"],
+    "rights": ["is_right_paper", "right_paper"],
+    "plans": ["first_unsafe", "longest", "free_from", "blamed"],
 }
 METHODS = {
     "Table": ["__init__", "rules", "__contains__", "__len__", "__eq__", "answer", "rule_for", "with_rule", "without"],
@@ -27,6 +31,7 @@ METHODS = {
     "Heads": ["__init__", "joints", "words", "heads", "head", "answers", "back", "met", "is_bounded"],
     "Site": ["__init__", "put_page", "put_section", "move", "bring", "merge", "take", "names", "sort_of", "at", "last",
              "place_of", "claims", "events", "copied", "__eq__"],
+    "Reader": ["__init__", "ask", "memory", "forget", "follow"],
 }
 
 LIBRARY = {
@@ -49,8 +54,11 @@ BARRED_WORDS = """typing typing_extensions enum Enum IntEnum StrEnum Flag IntFla
 BARRED_NAMES = """register mro elements open input law version_info with_traceback add_note attrgetter breakpoint
     builtins compile copyright credits delattr dir eval exec exit gc globals help id importlib license locals
     methodcaller os quit type vars""".split()
+# The last two rows are what LANGUAGE.md allows in some places alone, and this program does without.
 BARRED_NODES = (ast.Global, ast.AsyncFunctionDef, ast.AsyncFor, ast.AsyncWith, ast.Await, ast.Div, ast.MatMult,
-                ast.TryStar, ast.MatchMapping)
+                ast.TryStar, ast.MatchMapping,
+                ast.GeneratorExp, ast.Lambda, ast.Set, ast.SetComp, ast.Yield, ast.YieldFrom, ast.With, ast.Match,
+                ast.NamedExpr, ast.Nonlocal, ast.Assert, ast.AnnAssign, ast.Pow)
 
 
 def package_files():

@@ -1,0 +1,144 @@
+"""Whether a site is safe with a server, and which way goes wrong if it is not."""
+
+from leadsever.ends import kind_and_front
+from leadsever.errors import NotSafe
+from leadsever.heads import Heads
+from leadsever.heirs import fits, heir
+from leadsever.pairs import wrong_of
+from leadsever.readers import Reader, is_choice, visits_for
+from leadsever.rounds import first_round, round_steps
+from leadsever.tables import is_end
+from leadsever.trees import BEHIND
+from leadsever.walks import is_round
+from leadsever.ways import Ways
+from leadsever.words import address_key, is_address, is_day
+
+
+def wrong_address(server, site, day):
+    """The least wrong address on a day, or None if the site is safe."""
+    return wrong_of(server.sources(day), site.at(day))
+
+
+def wrong_way(server, site, day):
+    """A wrong way for the least wrong address on a day, or None if the site is safe."""
+    address = wrong_address(server, site, day)
+    if address is None:
+        return None
+    sources = server.sources(day)
+    walk, turn = _wrong_walk(sources, address, heir(site.at(day), address))
+    return (address, visits_for(server, walk, day), walk, turn)
+
+
+def need_safe(server, site, day):
+    """Raises NotSafe with a wrong way, if there is one."""
+    way = wrong_way(server, site, day)
+    if way is not None:
+        raise NotSafe(way)
+
+
+def _wrong_walk(sources, address, due):
+    """A short walk from a wrong address with a heir, or without one (None), and its round, or None."""
+    heads = Heads(sources)
+    ways = Ways(heads, address)
+    end = _other_end(ways, due)
+    found = None if end is None else _walk_of(heads, address, ways.end_steps(end))
+    steps = round_steps(ways)
+    if steps is not None:
+        walk = _walk_of(heads, address, steps)
+        tables = [table for table, _ in sources]
+        turn = first_round(walk, tables)
+        if found is None or turn[1] + 1 < len(found):
+            return (walk[:turn[1] + 1], turn)
+    # Nothing is promised where all wrong walks are too long.
+    return ([address] if found is None else found, None)
+
+
+def _other_end(ways, due):
+    """The nearest end to which walks from an address come that does not fit its heir, or None."""
+    if due is None:
+        return None
+    for end in ways.ends():
+        if end != kind_and_front(due):
+            return end
+    return None
+
+
+def _walk_of(heads, address, fronts):
+    """The walk from an address by the redirects that have some fronts."""
+    walk = [address]
+    for front in fronts:
+        joint, word = heads.head(walk[-1])
+        rest = walk[-1][len(joint):]
+        if word != BEHIND:
+            # The strange word stands for each word that is in no rule.
+            front = tuple([rest[0] if part == word else part for part in front])
+            rest = rest[1:]
+        walk.append(front + rest)
+    return walk
+
+
+def is_wrong_way(server, site, day, value):
+    """Whether any value is a wrong way for some address on a day."""
+    if not isinstance(value, tuple) or len(value) != 4:
+        return False
+    address, visits, walk, turn = value
+    if not _are_addresses(walk) or not is_address(address) or walk[0] != address:
+        return False
+    if not _are_visits(visits, day):
+        return False
+    sources = server.sources(day)
+    if not _is_free_walk(sources, walk) or len({each: True for each in walk[:-1]}) < len(walk) - 1:
+        return False
+    if turn is None:
+        return _ends_wrong(server, site, day, walk) and _follow(server, day, visits, walk) == (walk, True)
+    tables = [table for table, _ in sources]
+    if not is_round(turn, walk, tables) or turn[1] != len(walk) - 1:
+        return False
+    return _follow(server, day, visits, walk)[0] == walk
+
+
+def _are_addresses(value):
+    """Whether any value is a list of addresses that has some."""
+    if not isinstance(value, list) or not value:
+        return False
+    for address in value:
+        if not is_address(address):
+            return False
+    return True
+
+
+def _are_visits(value, day):
+    """Whether any value is a list of visits up to a day, in order, with different addresses."""
+    if not isinstance(value, list):
+        return False
+    for visit in value:
+        if not isinstance(visit, tuple) or len(visit) != 2:
+            return False
+        if not is_day(visit[0]) or visit[0] > day or not is_address(visit[1]):
+            return False
+    keys = [(told, address_key(address)) for told, address in value]
+    return keys == sorted(keys) and len({address: True for _, address in value}) == len(value)
+
+
+def _is_free_walk(sources, walk):
+    """Whether a list of addresses is a free walk."""
+    for address, target in zip(walk, walk[1:]):
+        if not is_choice(sources, address, target):
+            return False
+    return True
+
+
+def _ends_wrong(server, site, day, walk):
+    """Whether a walk leads to an end that does not fit the heir of its first address, by different addresses."""
+    answer = server.answer(walk[-1], day)
+    due = heir(site.at(day), walk[0])
+    return is_end(answer) and due is not None and not fits(answer, due) and walk[-1] not in walk[:-1]
+
+
+def _follow(server, day, visits, walk):
+    """What a reader walks that makes some visits and follows an address then, and whether to an end."""
+    reader = Reader(server)
+    for told, address in visits:
+        reader.ask(address, told)
+    found, end = reader.follow(walk[0], day, steps=len(walk) - 1)
+    return (found, end is not None)
