@@ -7,7 +7,7 @@ from leadsever.ends import end_of, front_behind, kind_and_front
 from leadsever.graphs import depths, reached
 from leadsever.readings import Reading
 from leadsever.trees import BEHIND, joints_found, turning_size, words_of
-from leadsever.words import address_key, strange_word
+from leadsever.words import address_key, beginnings, strange_word
 
 
 class Heads:
@@ -17,7 +17,8 @@ class Heads:
         tables = [table for table, _ in sources]
         words = words_of(tables)
         self._first = tables[0]
-        self._others = [(table, max(age, 1)) for table, age in sources[1:] if _lasts_for(table, max(age, 1))]
+        self._others = [(table, max(age, 1)) for table, age in sources[1:]]
+        self._telling = _telling(self._others)
         self._places = joints_found(tables)
         self._joints = sorted(list(self._places), key=address_key)
         self._strange = strange_word(words)
@@ -39,6 +40,13 @@ class Heads:
     def words(self):
         """The list of the words in the rules and the strange word for them, ascending."""
         return list(self._words)
+
+    def words_with(self, more):
+        """The list of the words in the rules, of some more words and of the strange word for all these, ascending."""
+        found = {word: True for word in [*self._words, *more]}
+        if self._strange in more:
+            found[strange_word(list(found))] = True
+        return sorted(list(found))
 
     def heads(self):
         """The list of all heads of addresses of these words."""
@@ -66,7 +74,12 @@ class Heads:
     def _find_answers(self, address):
         """The list of the tuples (kind, front) for the allowed answers to an address of a joint and a word."""
         found = [kind_and_front(self._first.answer(address))]
-        for table, least in self._others:
+        told = {}
+        for key in [("exact", address), *[("open", start) for start in beginnings(address)]]:
+            for index in self._telling.get(key, []):
+                told[index] = True
+        for index in sorted(list(told)):
+            table, least = self._others[index]
             answer = table.answer(address)
             if answer[0] == "to" and answer[2] >= least:
                 row = kind_and_front(answer)
@@ -104,12 +117,17 @@ class Heads:
         return self._depths.get(self._known_head(head))
 
 
-def _lasts_for(table, least):
-    """Whether a table has a redirect that lasts for so many days."""
-    for _, _, answer in table.rules:
-        if answer[0] == "to" and answer[2] >= least:
-            return True
-    return False
+def _telling(others):
+    """A dict from sorts and places to the numbers of those tables whose redirects there last long enough."""
+    found = {}
+    for index, (table, least) in enumerate(others):
+        for sort, place, answer in table.rules:
+            if answer[0] == "to" and answer[2] >= least:
+                key = (sort, place)
+                if key not in found:
+                    found[key] = []
+                found[key].append(index)
+    return found
 
 
 def _all_heads(places, words):

@@ -1,11 +1,9 @@
 """Where the heirs of addresses are and where readers may be, side by side, word by word."""
 
 from leadsever.courses import Course
-from leadsever.heads import Heads
 from leadsever.heirs import claims_table
 from leadsever.lasts import ENDLESS, NOTHING, TORN, Here, backs_and_lasts
 from leadsever.trees import BEHIND, words_of
-from leadsever.words import strange_word
 
 # Where both are ahead of all words.
 FIRST_PAIR = (("at", ()), ("at", ()))
@@ -74,12 +72,10 @@ class Pairs:
         return found
 
 
-def wrong_of(sources, site):
-    """The least wrong address, with sources and a site as it is now, or None."""
+def wrong_of(heads, site):
+    """The least wrong address, with the sources of some heads and a site as it is now, or None."""
     table = claims_table(site)
-    words = words_of([table, *[told for told, _ in sources]])
-    heads = Heads(sources)
     backs, lasts = backs_and_lasts(heads)
     bounded = len(lasts) == len(heads.heads())
-    pairs = Pairs(Course(table), Here(heads, backs, lasts), sorted([*words, strange_word(words)]), bounded)
+    pairs = Pairs(Course(table), Here(heads, backs, lasts), heads.words_with(words_of([table])), bounded)
     return pairs.search()

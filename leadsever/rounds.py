@@ -58,7 +58,9 @@ def _parts_to(found, start, node):
 
 def _on_circles(ways, nodes):
     """A dict that has those nodes as its keys that are led to by circles, and lead to some."""
-    graph = {node: [after for after, _, _ in ways.edges(node) if after in nodes] for node in nodes}
+    graph = {}
+    for node in nodes:
+        graph[node] = [edge[0] for edge in ways.edges(node) if edge[0] in nodes]
     turned = {node: [] for node in nodes}
     for node in graph:
         for after in graph[node]:

@@ -16,7 +16,7 @@ from leadsever.words import address_key, is_address, is_day
 
 def wrong_address(server, site, day):
     """The least wrong address on a day, or None if the site is safe."""
-    return wrong_of(server.sources(day), site.at(day))
+    return wrong_of(Heads(server.sources(day)), site.at(day))
 
 
 def wrong_way(server, site, day):
@@ -24,8 +24,9 @@ def wrong_way(server, site, day):
     address = wrong_address(server, site, day)
     if address is None:
         return None
-    sources = server.sources(day)
-    walk, turn = _wrong_walk(sources, address, heir(site.at(day), address))
+    found = wrong_walk(server.sources(day), address, heir(site.at(day), address))
+    # Nothing is promised where all wrong walks are too long.
+    walk, turn = ([address], None) if found is None else found
     return (address, visits_for(server, walk, day), walk, turn)
 
 
@@ -36,21 +37,19 @@ def need_safe(server, site, day):
         raise NotSafe(way)
 
 
-def _wrong_walk(sources, address, due):
-    """A short walk from a wrong address with a heir, or without one (None), and its round, or None."""
+def wrong_walk(sources, address, due):
+    """A short walk from a wrong address with an heir, or without one (None), and its round or None; or None."""
     heads = Heads(sources)
     ways = Ways(heads, address)
     end = _other_end(ways, due)
-    found = None if end is None else _walk_of(heads, address, ways.end_steps(end))
+    found = None if end is None else (_walk_of(heads, address, ways.end_steps(end)), None)
     steps = round_steps(ways)
     if steps is not None:
         walk = _walk_of(heads, address, steps)
-        tables = [table for table, _ in sources]
-        turn = first_round(walk, tables)
-        if found is None or turn[1] + 1 < len(found):
+        turn = first_round(walk, [table for table, _ in sources])
+        if found is None or turn[1] + 1 < len(found[0]):
             return (walk[:turn[1] + 1], turn)
-    # Nothing is promised where all wrong walks are too long.
-    return ([address] if found is None else found, None)
+    return found
 
 
 def _other_end(ways, due):
@@ -69,11 +68,11 @@ def _walk_of(heads, address, fronts):
     for front in fronts:
         joint, word = heads.head(walk[-1])
         rest = walk[-1][len(joint):]
-        if word != BEHIND:
+        if word == BEHIND:
+            walk.append(front)
+        else:
             # The strange word stands for each word that is in no rule.
-            front = tuple([rest[0] if part == word else part for part in front])
-            rest = rest[1:]
-        walk.append(front + rest)
+            walk.append((*[rest[0] if part == word else part for part in front], *rest[1:]))
     return walk
 
 

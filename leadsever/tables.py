@@ -50,6 +50,8 @@ class Table:
             raise BadTable(tuple(rules))
         self._rules = tuple(sorted(rules, key=rule_key))
         self._found = found
+        # How many words the longest place has.
+        self._longest = max([len(rule[1]) for rule in rules], default=0)
 
     @property
     def rules(self):
@@ -75,13 +77,14 @@ class Table:
 
     def rule_for(self, address):
         """The rule that answers an address, or None."""
-        keys = [("exact", tuple(address))] if len(address) <= PLACE_WORDS else []
-        for start in reversed(beginnings(address[:PLACE_WORDS])):
-            keys.append(("open", start))
-        for key in keys:
-            if key in self._found:
-                return tuple(list(self._found[key]))
-        return None
+        key = ("exact", tuple(address[:PLACE_WORDS + 1]))
+        size = min(len(address), self._longest)
+        while key not in self._found:
+            if size < 0:
+                return None
+            key = ("open", tuple(address[:size]))
+            size -= 1
+        return tuple(list(self._found[key]))
 
     def with_rule(self, rule):
         """A new table with a rule added, or put in place of the one of its sort and place."""

@@ -1,7 +1,7 @@
 """The shortest walks by sources from an address, to its ends and into rounds, without trying all walks.
 
-A walk is taken apart by what is read: nodes are the beginnings of fronts (tuples of words), which
-are read from the joint () on, and heads. The address is the front of a head of its own, START.
+A walk is taken apart by what is read: nodes are starts, which are beginnings of fronts and are read
+from the joint () on, heads, and whole addresses. The address is the front of a head of its own, START.
 """
 
 from heapq import heappop, heappush
@@ -11,7 +11,10 @@ from leadsever.heads import redirects
 from leadsever.lasts import shown_kind
 from leadsever.trees import BEHIND
 
-START = (None, BEHIND)
+# Where the heads have joints, this one has none.
+START = (None, "$")
+# The node for a front with nothing behind it is a tuple of this and the front.
+WHOLE = "$"
 # Longer walks are not looked for.
 MOST_STEPS = 1000
 
@@ -181,16 +184,14 @@ class Ways:
         return found
 
     def edges(self, node):
-        """The list of tuples (node, cost, parts): what is met, or read, next, for a start or a head."""
-        found = []
+        """The list of tuples (node, cost, parts): what comes next behind a head, a start or a whole address."""
         if node in self._fronts:
-            for front in self._fronts[node]:
-                step = (0, ()) if node == START else (1, (("take", front),))
-                found.append((front, *step))
-                if node[1] == BEHIND:
-                    for joint in self._reads[front]:
-                        more = (*step[1], ("read", front, joint))
-                        found.append(((joint, BEHIND), step[0] + self._reads[front][joint], more))
+            return self._edges_of_head(node)
+        found = []
+        if node and node[0] == WHOLE:
+            found.append((node[1], 0, ()))
+            for joint in self._reads[node[1]]:
+                found.append(((joint, BEHIND), self._reads[node[1]][joint], (("read", node[1], joint),)))
         elif node:
             start = node[:-1]
             found.append((start, 0, ()))
@@ -198,4 +199,13 @@ class Ways:
                 longer = (*joint, node[-1])
                 if longer not in self._places:
                     found.append((self._heads.head(longer), self._reads[start][joint], (("read", start, joint),)))
+        return found
+
+    def _edges_of_head(self, head):
+        """The edges from a head to its fronts, which are whole addresses if nothing is behind."""
+        cost = 0 if head == START else 1
+        found = []
+        for front in self._fronts[head]:
+            made = () if head == START else (("take", front),)
+            found.append(((WHOLE, front) if head[1] == BEHIND else front, cost, made))
         return found

@@ -24,6 +24,11 @@ INTERFACE = {
     "readers": ["Reader", "visits_for", "longer_walk"],
     "rights": ["is_right_paper", "right_paper"],
     "plans": ["first_unsafe", "longest", "free_from", "blamed"],
+    "fewest": ["own_rules", "leads_claims", "fewest_table"],
+    "makers": ["made_plan"],
+    "texts": ["address_text", "rule_text", "table_text", "server_text", "site_text", "read_address", "read_rule", "read_table",
+              "read_server", "read_site"],
+    "console": ["Console"],
 }
 METHODS = {
     "Table": ["__init__", "rules", "__contains__", "__len__", "__eq__", "answer", "rule_for", "with_rule", "without"],
@@ -32,6 +37,7 @@ METHODS = {
     "Site": ["__init__", "put_page", "put_section", "move", "bring", "merge", "take", "names", "sort_of", "at", "last",
              "place_of", "claims", "events", "copied", "__eq__"],
     "Reader": ["__init__", "ask", "memory", "forget", "follow"],
+    "Console": ["__init__", "__call__"],
 }
 
 LIBRARY = {
