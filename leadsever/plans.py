@@ -60,7 +60,7 @@ class Plan:
         told = retold(self._server, day, rule, most)
         found = most
         for later in turning_days(self._server, self._site, day):
-            # On the days after one on which it may not be remembered, it has expired.
+            # Where it must have expired on a day, it has expired on all days behind this one, too.
             if last is not None and last < later <= last + found and not self._stays_safe(told, later, day, rule):
                 found = later - last - 1
         self._server = retold(self._server, day, rule, found)

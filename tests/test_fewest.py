@@ -311,6 +311,22 @@ class Fewest(unittest.TestCase):
             site = site_of(put(0, "section", "s", "w", "v"), (0, "put", "page", "t", place), move(1, "s", "q"), take(2, "t"))
             self.check(site, many)
 
+    def test_right_behind_4_words(self):
+        # What an open rule leads to is right for longer addresses, too.
+        for place in (("q", "a"), ("q", "a", "b"), ("q", "a", "b", "c")):
+            self.check(site_of(put(0, "section", "s", "w", "v"), (0, "put", "page", "t", place), move(1, "s", "q")), 1)
+            self.check(site_of(put(0, "section", "s", "w", "v"), (0, "put", "section", "t", place), move(1, "s", "q")), 1)
+
+    def test_heirs_of_some_addresses_alone(self):
+        # The place itself has an heir, but not all that begins with it.
+        site = moved_pages("x", "y")
+        site.put_page(1, "p", ("a",))
+        site.move(1, "p", ("b",))
+        self.check(site, 1, 3)
+        # All that begins with it has one, but not itself; so this is a section's.
+        site = site_of(put(0, "section", "s", "a"), put(0, "page", "p", "a"), move(0, "p", "c"), move(0, "s", "b"))
+        self.check(site, 2)
+
     def test_passing_alone(self):
         self.assertEqual(fewest_table(DOCS).rules[0], ("open", ("docs",), ("to", ("manual",), 0)))
 

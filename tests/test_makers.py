@@ -125,6 +125,13 @@ class Made(unittest.TestCase):
                          [(exact("a", *to("b", 0)), exact("b", "page", "p")), (exact("a", "page", "p"), exact("b", *to("a", 0))),
                           (exact("a", *to("b", 20)), exact("b", "page", "p"))])
 
+    def test_inside(self):
+        # No other open rule is there for addresses that have no heir.
+        site = site_of(*[put(0, "page", name, "a", name) for name in "xyz"], *[move(2, name, "b", name) for name in "xyz"])
+        self.assertEqual(len(fewest_table(site)), 4)
+        plan = self.check(site, 0, 9)
+        self.assertEqual(plan.table(2).rules[:3], tuple(exact("a" + name, *to("b" + name, 9)) for name in "xyz"))
+
     def test_sections(self):
         site = site_of(put(0, "section", "s", "a"), put(0, "page", "p", "a", "x"), move(3, "s", "b"), move(7, "p", "b", "x"),
                        move(9, "s", "a"))

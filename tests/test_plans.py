@@ -321,6 +321,19 @@ class Blamed(unittest.TestCase):
         self.check(server, site, 5, [])
         self.check(server, site, 12, [(3, rule)])
 
+    def test_a_wrong_walk_of_very_many_redirects(self):
+        # From z there are more than 2 ** 36 redirects to what is behind it.
+        rules = [open_("a", *to("")), *[open_(two, *to((one,) * 4)) for one, two in zip("abcdefghijklmnopqrstuvwxy", "bcdefghijklmnopqrstuvwxyz")]]
+        own = exact(["home"], "page", "p")
+        lasting = [exact(["home"], *to(["z", "end"], 20)), exact(["other"], *to(["home"], 20)), exact(["away"], *to(["z"], 3))]
+        server = server_of((0, [*rules, *lasting]), (5, [*rules, own]), (8, [*rules, own, exact(["other"], "gone")]))
+        site = site_of((0, "put", "page", "p", ("home",)))
+        for day, due in ((4, []), (5, [(0, lasting[0])]), (7, [(0, lasting[0])]), (24, [(0, lasting[0])]), (25, [])):
+            self.check(server, site, day, due)
+        # On the day 0 nothing is at home; from the day 5 on, it may not be remembered that it was elsewhere.
+        self.assertEqual(longest(server, site.copied(), 0, lasting[0]), None)
+        self.assertEqual([first_unsafe(server, site, day) for day in (0, 5, 25)], [0, 5, None])
+
     def test_a_day_of_an_older_table(self):
         # Only tables that came into force ahead of the one in force on the day count.
         self.check(BACK_AND_FORTH, site_of(put(0, "page", "p", "x")), 3, [])

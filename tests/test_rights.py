@@ -163,6 +163,38 @@ class Rights(unittest.TestCase):
             self.assertIs(is_right_paper(SERVER, SITE, 0, paper), due, (head, value))
             self.assertIs(plain_is_right(SERVER, SITE, 0, paper), due)
 
+    def test_the_form_of_ends(self):
+        # Walks over the head ((), "x") come back, and there is no heir: any end may stand there, if it is one.
+        server = server_of((0, [open_("x", *to("")), exact("p", "page", "p")]))
+        site = site_of(put(0, "page", "p", "p"))
+        heights, backs, ends, pairs = right_paper(server, site, 0)
+        self.assertEqual((ends[(), "x"], backs[(), "x"]), ([], [()]))
+        page, section = (("page", "q"), ()), (("section", "q"), ("a", "b"))
+        for value, due in ((None, True), ([page], True), ([section], True), ([(("section", "q"), ())], True), ([(GONE, ())], True),
+                           ([page, page], False), ([page, section], False), ([(("page", "q"), ("a",))], False), ([(GONE, ("a",))], False),
+                           ([(("nothing",), ())], False), ([(("to",), ())], False), ([(("to", "q"), ())], False),
+                           ([(("goto", "q"), ("a",))], False), ([(("page", "Q"), ())], False), ([(("section", "Q"), ())], False),
+                           ([(("section", "q"), ("A",))], False), ([(("section", "q"), ["a"])], False), ([(("section", "q"), "a")], False),
+                           ([(("page",), ())], False), ([(("section",), ())], False), ([(("section", "q", ()), ())], False),
+                           ([("gone", ())], False), ([(["gone"], ())], False), ([(GONE,)], False), ([[GONE, ()]], False),
+                           ([(GONE, (), ())], False), ((page,), False), (page, False), ({}, False), ([None], False), ("", False)):
+            paper = (heights, backs, {**ends, ((), "x"): value}, pairs)
+            self.assertIs(is_right_paper(server, site, 0, paper), due, value)
+            self.assertIs(plain_is_right(server, site, 0, paper), due, value)
+            if isinstance(value, list) and len(value) == 1 and isinstance(value[0], tuple):
+                stand = ("end", *value[0])
+                paper = (heights, backs, ends, [*pairs, (stand, stand)])
+                self.assertIs(is_right_paper(server, site, 0, paper), due, stand)
+
+    def test_the_keys_of_ends(self):
+        heights, backs, ends, pairs = right_paper(SERVER, SITE, 0)
+        for head in list(ends):
+            fewer = {each: ends[each] for each in ends if each != head}
+            self.wrong((heights, backs, fewer, pairs))
+            for other in (((), "zz"), (("zz",), "$"), ("zz",), "zz", 0, None):
+                self.wrong((heights, backs, {**fewer, other: ends[head]}, pairs))
+                self.wrong((heights, backs, {**ends, other: ends[head]}, pairs))
+
     def test_several_ends(self):
         # Readers may come to several ends, but only where there is no heir.
         server = server_of((0, [open_("a", *to("b", 9))]), (1, [open_("b", "section", "t"), exact("p", "page", "p")]))

@@ -5,14 +5,16 @@ import random
 import unittest
 
 from leadsever.errors import NotSafe
-from leadsever.heirs import heir
+from leadsever.heirs import claims_table, heir
 from leadsever.readers import Reader
 from leadsever.safe import is_wrong_way, need_safe, wrong_address, wrong_way
 from leadsever.servers import Server
 from leadsever.sites import Site
 from leadsever.tables import Table
-from served import (BACK_AND_FORTH, MOVED, days_of, exact, move, open_, plain_allowed, plain_is_wrong_way, plain_wrong_address,
-                    put, server_of, site_of, some_plan, some_server, take, to)
+from happened import plain_heir
+from plain import plain_is_round, plain_joints
+from served import (BACK_AND_FORTH, MOVED, days_of, exact, move, open_, plain_allowed, plain_fits, plain_is_wrong_way,
+                    plain_wrong_address, put, server_of, site_of, some_plan, some_server, take, to)
 from test_rules import ANY_VALUES
 from test_walks import LETTERS, counter
 
@@ -20,6 +22,12 @@ LATE = 1000000
 WAY = (("x",), [(4, ("x",))], [("x",), ("y",), ("x",)], (0, 2, 1))
 OWN_PAGE = [exact("p", "page", "p")]
 PAGE = put(0, "page", "p", "p")
+
+
+def has_round(walk, places):
+    """Whether a walk has a round that ends with it."""
+    j = len(walk) - 1
+    return any(plain_is_round((i, j, n), walk, places) for i in range(j) for n in range(len(walk[i]) + 1))
 
 
 class SafeTest(unittest.TestCase):
@@ -171,6 +179,20 @@ class WrongAddress(SafeTest):
         # The second redirect is valid for 50 days from the day 8 on.
         self.check(server, site, 59, None)
 
+    def test_several_ends_ahead_of_an_heir(self):
+        # By two old tables readers come to two ends from a, which has no heir, and so from ab, which has one.
+        site = site_of(put(0, "page", "p", "a", "b"), move(0, "p", "d", "b"))
+        table = Table([open_("a", *to("d")), exact("db", "page", "p"), open_("c", "section", "t")])
+        old = ([open_("a", *to("c", 9))], [open_("a", *to("e", 9))])
+        self.check(server_of((0, old[0]), (1, old[1]), (2, table)), site, 2, ("a", "b"))
+        self.check(server_of((0, old[0]), (2, table)), site, 2, ("a", "b"), [("a", "b"), ("c", "b")])
+        self.check(server_of((2, table)), site, 2, None)
+        # One word more, and a strange one.
+        site = site_of(put(0, "section", "s", "a", "b", "c"), move(0, "s", "d", "b"))
+        table = Table([open_("abc", *to("db")), open_("db", "section", "s"), open_("c", "section", "t")])
+        self.check(server_of((0, old[0]), (1, old[1]), (2, table)), site, 2, ("a", "b", "c"))
+        self.check(server_of((2, table)), site, 2, None)
+
     def test_days(self):
         site = site_of(put(0, "page", "p", "x"), move(3, "p", "y"), move(6, "p", "z"))
         final = [exact("z", "page", "p"), exact("x", *to("z")), exact("y", *to("z"))]
@@ -270,6 +292,58 @@ class LongWalks(SafeTest):
             self.check(server, site, 0, (LETTERS[many - 1],))
         way = wrong_way(server, site, 0)
         self.assertEqual(len(way[2]), 256)
+
+    def test_a_short_way_beside_long_ones(self):
+        # From i a walk has 511 redirects, from h it has 255; with x behind, it goes round.
+        site = site_of(put(0, "page", "p", "x"))
+        for old, new, many, turn in (("h", "i", 257, None), ("i", "h", 257, None), ("hx", "ix", 257, (0, 256, 1)),
+                                     ("ix", "hx", 257, (0, 256, 1)), ("ix", "h", 257, None), ("hx", "i", 257, (0, 256, 1)),
+                                     ("h", "ix", 257, None), ("q", "i", 2, None), ("x", "i", 2, (0, 1, 1)), ("hax", "hh", 258, (0, 257, 1)),
+                                     ("hha", "hax", 258, (0, 257, 1)), ("hb", "hax", 258, (0, 257, 1)), ("haa", "hax", 258, (0, 257, 1))):
+            server = server_of((0, [exact("x", *to(old, 9))]), (1, [*counter(9).rules, exact("x", *to(new))]))
+            way = self.check(server, site, 1, ("x",))
+            self.assertEqual((len(way[2]), way[3]), (many, turn))
+
+    def test_a_near_end_beside_far_ones(self):
+        # Each letter leads to the next one; the ends are at e, s and z, and the heir is none of them.
+        site = site_of(put(0, "page", "p", "x", "x"))
+        chain = [open_(one, *to(two)) for one, two in zip(LETTERS, LETTERS[1:]) if one not in "es"]
+        chain += [open_("e", "section", "e"), open_("s", "gone"), open_("z", "section", "z")]
+        for targets, many in (("af", 6), ("fa", 6), ("fc", 4), ("atf", 6), ("tu", 7), ("tfa", 6), ("fta", 6), ("fga", 6), ("gfd", 3), ("e", 2),
+                              ("ahe", 2), ("hs", 2), ("zh", 2)):
+            rows = [(day, [*chain, exact("xx", *to(target, 9))]) for day, target in enumerate(targets)]
+            way = self.check(server_of(*rows), site, len(targets) - 1, ("x", "x"))
+            self.assertEqual(len(way[2]), many, targets)
+
+    def test_short_steps_beside_long_ones(self):
+        # By the old table, each letter leads to the one ahead of it alone; the table in force takes it twice.
+        site = site_of(put(0, "page", "p", "x"))
+        old = [open_(two, *to(one, 9)) for one, two in zip(LETTERS, LETTERS[1:12])]
+        for target, many, turn in (("l", 14, None), ("ll", 26, None), ("lll", 38, None), ("lx", 14, (0, 13, 1)), ("llx", 26, (0, 25, 1)),
+                                   ("cl", 17, None), ("alx", 15, (0, 14, 1))):
+            server = server_of((0, old), (1, [*counter(12).rules, exact("x", *to(target))]))
+            way = self.check(server, site, 1, ("x",))
+            self.assertEqual((len(way[2]), way[3]), (many, turn))
+
+    def test_as_short_as_can_be(self):
+        pick = random.Random(39)
+        seen = set()
+        for _ in range(150):
+            server, site = pick.choice([lambda: some_plan(pick, odd=0.6), lambda: (some_server(pick), Site())])()
+            day = pick.choice([*days_of(server, site), 60])
+            way = wrong_way(server, site, day)
+            if way is not None and len(way[2]) > 1:
+                table, tables = claims_table(site.at(day)), [told for told, _ in server.sources(day)]
+                level = [[way[0]]]
+                for _ in range(len(way[2]) - 1):
+                    # No shorter walk ends wrong, or has a round.
+                    for walk in level:
+                        end, due = server.answer(walk[-1], day), plain_heir(table, walk[0])
+                        self.assertTrue(end[0] == "to" or due is None or plain_fits(end, due))
+                        self.assertFalse(has_round(walk, plain_joints(tables)))
+                    level = [[*walk, after] for walk in level for after in plain_allowed(server, walk[-1], day)]
+                seen.add(len(way[2]))
+        self.assertGreater(len(seen), 3)
 
     def test_more_than_500_addresses(self):
         for many in (9, 10, 26):
