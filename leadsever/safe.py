@@ -6,12 +6,16 @@ from leadsever.heads import Heads
 from leadsever.heirs import fits, heir
 from leadsever.pairs import wrong_of
 from leadsever.readers import Reader, is_choice, visits_for
-from leadsever.rounds import first_round, round_steps
-from leadsever.tables import is_end
-from leadsever.trees import BEHIND
+from leadsever.rounds import Rounds, first_round
+from leadsever.tables import Table, is_end
+from leadsever.trees import BEHIND, words_of
 from leadsever.walks import is_round
 from leadsever.ways import Ways
 from leadsever.words import address_key, is_address, is_day
+
+# Walks with so many redirects are looked for at first, and at last.
+FEW_STEPS = 2
+MOST_STEPS = 1024
 
 
 def wrong_address(server, site, day):
@@ -38,18 +42,40 @@ def need_safe(server, site, day):
 
 
 def wrong_walk(sources, address, due):
-    """A short walk from a wrong address with an heir, or without one (None), and its round or None; or None."""
-    heads = Heads(sources)
-    ways = Ways(heads, address)
+    """A shortest wrong walk from a wrong address with an heir, or without one (None), and its round or None.
+
+    It is None if all wrong walks are too long.
+    """
+    heads = Heads([*sources, *_naming(sources, address)])
+    found = None
+    most = FEW_STEPS
+    # Most wrong walks are short, and with many tables, the short ones alone are found far faster.
+    while found is None and most <= MOST_STEPS:
+        found = _wrong_steps(Ways(heads, address, most), due, most)
+        most += most
+    if found is None:
+        return None
+    fronts, turns = found
+    walk = _walk_of(heads, address, fronts)
+    return (walk, first_round(walk, [table for table, _ in sources]) if turns else None)
+
+
+def _wrong_steps(ways, due, most):
+    """The fronts of the redirects of a shortest wrong walk, and whether it goes round; or None."""
     end = _other_end(ways, due)
-    found = None if end is None else (_walk_of(heads, address, ways.end_steps(end)), None)
-    steps = round_steps(ways)
-    if steps is not None:
-        walk = _walk_of(heads, address, steps)
-        turn = first_round(walk, [table for table, _ in sources])
-        if found is None or turn[1] + 1 < len(found[0]):
-            return (walk[:turn[1] + 1], turn)
-    return found
+    if end is None:
+        fronts = Rounds(ways, most).steps()
+        return None if fronts is None else (fronts, True)
+    to_end = ways.end_steps(end)
+    fronts = Rounds(ways, len(to_end) - 1).steps()
+    return (to_end, False) if fronts is None else (fronts, True)
+
+
+def _naming(sources, address):
+    """Sources that allow nothing, but name the words of an address that are in no rule of other sources."""
+    known = words_of([table for table, _ in sources])
+    strange = {word: True for word in address if word not in known}
+    return [(Table([("open", (), ("to", (word,), 0))]), 1) for word in strange]
 
 
 def _other_end(ways, due):
@@ -67,12 +93,8 @@ def _walk_of(heads, address, fronts):
     walk = [address]
     for front in fronts:
         joint, word = heads.head(walk[-1])
-        rest = walk[-1][len(joint):]
-        if word == BEHIND:
-            walk.append(front)
-        else:
-            # The strange word stands for each word that is in no rule.
-            walk.append((*[rest[0] if part == word else part for part in front], *rest[1:]))
+        size = len(joint) if word == BEHIND else len(joint) + 1
+        walk.append((*front, *walk[-1][size:]))
     return walk
 
 

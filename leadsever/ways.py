@@ -15,12 +15,12 @@ from leadsever.trees import BEHIND
 START = (None, "$")
 # The node for a front with nothing behind it is a tuple of this and the front.
 WHOLE = "$"
-# Longer walks are not looked for.
-MOST_STEPS = 1000
 
 
 class Ways:
-    """The least costs, in redirects, of what walks by sources do.
+    """The least costs, in redirects, of what walks by sources do, as far as they are at most so many.
+
+    All words of the address are words of the heads: the strange word stands for none of them.
 
     Parts of walks are settled by their costs, the least ones first:
     ("read", start, joint): reading the words of a start comes to a joint;
@@ -30,8 +30,9 @@ class Ways:
     start and head, as at most one of them fits an heir.
     """
 
-    def __init__(self, heads, address):
+    def __init__(self, heads, address, most):
         self._heads = heads
+        self._most = most
         self._places = {joint: True for joint in heads.joints}
         self._fronts = {head: redirects(heads.answers(head)) for head in heads.heads()}
         self._fronts[START] = [address]
@@ -45,7 +46,9 @@ class Ways:
         self._waiting = {head: [] for head in self._fronts}
         # By starts and heads: the costs of their ends.
         self._ends = {node: {} for node in [*self._nexts, *self._fronts]}
-        # By parts of walks: the parts, and redirects ("take", front), of which they are made.
+        # By parts of walks: the least costs known, and, for those settled, the parts, and redirects
+        # ("take", front), of which they are made.
+        self._costs = {}
         self._made = {}
         self._queue = []
         self._pushed = 0
@@ -79,7 +82,8 @@ class Ways:
 
     def _push(self, cost, part, made):
         """Lets a part of walks wait until it is its turn."""
-        if cost <= MOST_STEPS and part not in self._made:
+        if cost <= self._most and (part not in self._costs or cost < self._costs[part]):
+            self._costs[part] = cost
             # The number keeps parts of one cost from being compared.
             self._pushed += 1
             heappush(self._queue, (cost, self._pushed, part, made))
@@ -144,9 +148,7 @@ class Ways:
                 if user[1] == BEHIND:
                     self._push_taken(user, start, end, made, cost)
         else:
-            # The strange word stands for each word that is in no rule.
-            front = tuple([word if part == head[1] else part for part in end[1]])
-            self._push(cost, ("stop", (*start, word), end[0], front), made)
+            self._push(cost, ("stop", (*start, word), *end), made)
 
     def _settle_stop(self, part, cost):
         """Goes on from an end to which a walk comes in reading a start."""
@@ -181,6 +183,34 @@ class Ways:
                 found.append(part[1])
             else:
                 todo.extend(list(reversed(self._made[part])))
+        return found
+
+    def is_head(self, node):
+        """Whether a node is a head."""
+        return node in self._fronts
+
+    def meetings(self, head):
+        """The list of tuples (node, start) for the nodes that lead to a head in reading a word behind a start."""
+        found = []
+        for start, word, _ in self._waiting[head]:
+            found.append(((WHOLE, start) if word == BEHIND else (*start, word), start))
+        return found
+
+    def cost_of_reading(self, start, joint):
+        """The least cost for coming to a joint by reading a start, or None."""
+        return self._reads[start].get(joint)
+
+    def readings(self, word):
+        """The list of tuples (joint, joint, cost, parts) for what reading a word leads from, and to."""
+        found = []
+        for joint in self._places:
+            longer = (*joint, word)
+            if longer in self._places:
+                found.append((joint, longer, 0, ()))
+            else:
+                head = self._heads.head(longer)
+                for back in self._backs[head]:
+                    found.append((joint, back, self._backs[head][back], (("back", head, back),)))
         return found
 
     def edges(self, node):
